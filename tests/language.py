@@ -24,6 +24,9 @@ WORDS = re.compile(
 FILE_NAME = re.compile(r"(__init__|__main__|[a-z][a-z0-9_]*)\.py")
 PLAIN_NAME = re.compile(r"[A-Za-z][A-Za-z0-9_]*")
 WALKED = {"zip", "enumerate", "reversed", "range"}
+PYTHONS_OWN = {name for kind in (str, int, list, tuple, dict, set, bytes) for name in dir(kind)}
+FREE_METHODS = METHODS | {"add", "discard"} | DUNDERS
+FREE_VALUES = set("count index title find get join lower upper split strip copy add".split())
 STATEMENTS = (
     ast.FunctionDef, ast.ClassDef, ast.ImportFrom, ast.Assign, ast.AugAssign, ast.If, ast.While, ast.For, ast.Return,
     ast.Break, ast.Continue, ast.Pass, ast.Raise, ast.Try, ast.Expr,
@@ -97,6 +100,8 @@ def faults_of_function(node):
             found.append(("L4", node.lineno))
         if node.end_lineno - node.lineno + 1 > 40:
             found.append(("L10", node.lineno))
+        if node.name == "__init__" and any(isinstance(each, ast.Return) and each.value for each in ast.walk(node)):
+            found.append(("L28", node.lineno))
         if node.returns or any(each.annotation for each in taken.args):
             found.append(("L21", node.lineno))
     return found
@@ -236,7 +241,7 @@ def faults_of_node(package, tree, node):
 def faults_of_file(package, text):
     """The tuples (rule, row) of what one file has outside the rules."""
     tree = ast.parse(text)
-    found = faults_of_text(text) + faults_of_top(tree) + faults_of_walks(tree)
+    found = faults_of_text(text) + faults_of_top(tree) + faults_of_walks(tree) + faults_of_sets(tree)
     for node in ast.walk(tree):
         found = found + faults_of_node(package, tree, node)
     return found
@@ -251,6 +256,30 @@ def faults_of_walks(tree):
         if isinstance(value, ast.Call) and isinstance(value.func, ast.Name) and value.func.id in WALKED:
             found.append(("L23", node.lineno))
     return found
+
+
+def is_set(node):
+    if isinstance(node, ast.BinOp):
+        return is_set(node.left) or is_set(node.right)
+    return isinstance(node, ast.Set) or is_call_of(node, {"set", "frozenset"})
+
+
+def is_call_of(node, names):
+    return isinstance(node, ast.Call) and isinstance(node.func, ast.Name) and node.func.id in names
+
+
+def faults_of_sets(tree):
+    """L24: a set is asked on the spot, not kept and not walked."""
+    asked = []
+    for node in ast.walk(tree):
+        if isinstance(node, ast.Compare):
+            good = all(isinstance(each, (ast.In, ast.NotIn, ast.Eq, ast.NotEq)) for each in node.ops)
+            asked.extend([node.left] + node.comparators if good else [])
+        elif isinstance(node, ast.BinOp) and isinstance(node.op, (ast.Sub, ast.BitAnd, ast.BitOr, ast.BitXor)):
+            asked.extend([node.left, node.right])
+        elif is_call_of(node, {"sorted", "len"}) and not node.keywords:
+            asked.extend(node.args)
+    return [("L24", node.lineno) for node in ast.walk(tree) if is_set(node) and node not in asked]
 
 
 def drawn_from(tree):
@@ -288,11 +317,13 @@ def led_to(trees, module):
 
 
 def faults_of_methods(trees):
-    """L18 and L25: no name both a method and a value; methods of Python's own are those of the list."""
+    """L18, L25 and L26: no name both a method and a value; Python's own methods are those of the list, and no
+    method or value bears the name of another one of them."""
     nodes = [node for tree in trees.values() for node in ast.walk(tree)]
     methods = {each.name for node in nodes if isinstance(node, ast.ClassDef)
                for each in node.body if isinstance(each, ast.FunctionDef)}
     given = {node.attr for node in nodes if isinstance(node, ast.Attribute) and isinstance(node.ctx, ast.Store)}
     called = {node.func.attr for node in nodes if isinstance(node, ast.Call) and isinstance(node.func, ast.Attribute)}
+    foreign = (methods - FREE_METHODS | given - FREE_VALUES) & PYTHONS_OWN
     return [("L18", name) for name in sorted(methods & given)] + [
-        ("L25", name) for name in sorted(called - methods - METHODS)]
+        ("L25", name) for name in sorted(called - methods - METHODS)] + [("L26", name) for name in sorted(foreign)]

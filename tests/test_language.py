@@ -37,7 +37,13 @@ OUTSIDE = [
     ("L20", "def f(x, y):\n    return x is y\n"),
     ("L21", "def f(x: int):\n    return x\n"),
     ("L23", "def f(x):\n    y = zip(x, x)\n    return list(y)\n"),
+    ("L24", "def f(x):\n    y = set(x)\n    return 1 in y\n"),
+    ("L24", "def f(x):\n    return [y for y in set(x)]\n"),
+    ("L24", "def f(x):\n    return {1, 2} - set(x)\n"),
+    ("L24", "def f(x):\n    return set(x) <= set(x)\n"),
+    ("L24", "def f(x):\n    return sorted(set(x), reverse=True)\n"),
     ("L27", "def f(n):\n    return 2 ** n\n"),
+    ("L28", "class A:\n    def __init__(self):\n        return None\n"),
 ]
 
 
@@ -77,6 +83,11 @@ class Checker(unittest.TestCase):
             with self.subTest(rule=rule, text=text):
                 self.assertIn(rule, [found for found, row in language.faults_of_file("knotless", text)])
 
+    def test_sets_that_are_asked_on_the_spot_are_let_pass(self):
+        for asked in ("1 in set(x)", "set(x) == set(x)", "sorted(set(x))", "len(set(x) - {1, 2} | set(x))"):
+            with self.subTest(asked):
+                self.assertEqual(language.faults_of_file("knotless", f"def f(x):\n    return {asked}\n"), [])
+
     def test_drawing_in_a_ring_is_found(self):
         ring = {
             "knotless.a": ast.parse("from knotless.b import g\ndef f():\n    return g()\n"),
@@ -87,6 +98,11 @@ class Checker(unittest.TestCase):
     def test_a_method_that_is_a_value_too_and_a_foreign_method_are_found(self):
         text = "class A:\n    def kept(self):\n        self.kept = [].sort()\n"
         self.assertEqual(language.faults_of_methods({"a": ast.parse(text)}), [("L18", "kept"), ("L25", "sort")])
+
+    def test_methods_and_values_that_bear_a_name_of_pythons_own_are_found(self):
+        text = "class A:\n    def union(self, b):\n        b.real = b.count = 1\n        b.items = self.get(1)\n"
+        self.assertEqual(language.faults_of_methods({"a": ast.parse(text)}),
+                         [("L26", "items"), ("L26", "real"), ("L26", "union")])
 
 
 if __name__ == "__main__":
