@@ -27,6 +27,10 @@ WALKED = {"zip", "enumerate", "reversed", "range"}
 PYTHONS_OWN = {name for kind in (str, int, list, tuple, dict, set, bytes) for name in dir(kind)}
 FREE_METHODS = METHODS | {"add", "discard"} | DUNDERS
 FREE_VALUES = set("count index title find get join lower upper split strip copy add".split())
+READERS = set("len list tuple dict sorted sum any all min max enumerate zip reversed".split())
+READ_BY = set("get items keys values count index copy".split())
+KEYWORDS = {"sorted": ("key", "reverse"), "min": ("key", "default"), "max": ("key", "default"), "sum": ("start",),
+            "enumerate": ("start",), "zip": ("strict",)}
 STATEMENTS = (
     ast.FunctionDef, ast.ClassDef, ast.ImportFrom, ast.Assign, ast.AugAssign, ast.If, ast.While, ast.For, ast.Return,
     ast.Break, ast.Continue, ast.Pass, ast.Raise, ast.Try, ast.Expr,
@@ -242,6 +246,7 @@ def faults_of_file(package, text):
     """The tuples (rule, row) of what one file has outside the rules."""
     tree = ast.parse(text)
     found = faults_of_text(text) + faults_of_top(tree) + faults_of_walks(tree) + faults_of_sets(tree)
+    found = found + faults_of_locals(tree) + faults_of_kept(tree) + faults_of_keywords(tree)
     for node in ast.walk(tree):
         found = found + faults_of_node(package, tree, node)
     return found
@@ -280,6 +285,56 @@ def faults_of_sets(tree):
         elif is_call_of(node, {"sorted", "len"}) and not node.keywords:
             asked.extend(node.args)
     return [("L24", node.lineno) for node in ast.walk(tree) if is_set(node) and node not in asked]
+
+
+def faults_of_locals(tree):
+    """L15: no parameter and no local is called like a class or an import of its file."""
+    taken = [each.asname or each.name for node in tree.body if isinstance(node, ast.ImportFrom) for each in node.names]
+    taken = taken + [node.name for node in tree.body if isinstance(node, ast.ClassDef)]
+    found = []
+    for node in ast.walk(tree):
+        if isinstance(node, ast.arg) and node.arg in taken:
+            found.append(("L15", node.lineno))
+        elif isinstance(node, ast.Name) and isinstance(node.ctx, ast.Store) and node.id in taken:
+            found.append(("L15", node.lineno))
+    return found
+
+
+def faults_of_kept(tree):
+    """L15: a list or dict of a file's top holds none itself, and is only read."""
+    found = []
+    kept = []
+    for node in tree.body:
+        if isinstance(node, ast.Assign) and isinstance(node.value, (ast.List, ast.Dict)):
+            kept.append(node.targets[0].id)
+            within = [each for each in ast.walk(node.value) if isinstance(each, (ast.List, ast.Dict))]
+            found.extend(("L15", each.lineno) for each in within if each is not node.value)
+    read = []
+    for node in ast.walk(tree):
+        if isinstance(node, ast.Subscript) and isinstance(node.ctx, ast.Load):
+            read.append(node.value)
+        elif isinstance(node, (ast.For, ast.comprehension)):
+            read.append(node.iter)
+        elif isinstance(node, ast.Compare):
+            read.extend([node.left] + node.comparators)
+        elif is_call_of(node, READERS):
+            read.extend(node.args)
+        elif isinstance(node, ast.Attribute) and node.attr in READ_BY:
+            read.append(node.value)
+    found.extend(("L15", node.lineno) for node in ast.walk(tree) if isinstance(node, ast.Name)
+                 and isinstance(node.ctx, ast.Load) and node.id in kept and node not in read)
+    return found
+
+
+def faults_of_keywords(tree):
+    """L22: which keywords stand at Python's own."""
+    found = []
+    for node in ast.walk(tree):
+        if isinstance(node, ast.Call):
+            name = node.func.attr if isinstance(node.func, ast.Attribute) else getattr(node.func, "id", None)
+            if name in OWN_NAMES | METHODS and any(each.arg not in KEYWORDS.get(name, ()) for each in node.keywords):
+                found.append(("L22", node.lineno))
+    return found
 
 
 def drawn_from(tree):

@@ -32,10 +32,18 @@ OUTSIDE = [
     ("L14", "# a\ttab\n"),
     ("L15", "A = 1\nA = 2\n"),
     ("L15", "def f(min):\n    return 1\n"),
+    ("L15", "from knotless.errors import BadTown\ndef f(BadTown):\n    return 1\n"),
+    ("L15", "class A:\n    pass\ndef f():\n    A = 1\n"),
+    ("L15", "KEPT = {1: [2]}\n"),
+    ("L15", "KEPT = {}\ndef f():\n    KEPT[1] = 2\n"),
+    ("L15", "KEPT = []\ndef f():\n    KEPT.append(2)\n"),
+    ("L15", "KEPT = []\ndef f():\n    return KEPT\n"),
     ("L17", "# of one type\n"),
     ("L19", "def f(x):\n    raise x\n"),
     ("L20", "def f(x, y):\n    return x is y\n"),
     ("L21", "def f(x: int):\n    return x\n"),
+    ("L22", "def f(x):\n    return x.split(sep=';')\n"),
+    ("L22", "def f(x):\n    return int(x, base=2)\n"),
     ("L23", "def f(x):\n    y = zip(x, x)\n    return list(y)\n"),
     ("L24", "def f(x):\n    y = set(x)\n    return 1 in y\n"),
     ("L24", "def f(x):\n    return [y for y in set(x)]\n"),
@@ -87,6 +95,10 @@ class Checker(unittest.TestCase):
         for asked in ("1 in set(x)", "set(x) == set(x)", "sorted(set(x))", "len(set(x) - {1, 2} | set(x))"):
             with self.subTest(asked):
                 self.assertEqual(language.faults_of_file("knotless", f"def f(x):\n    return {asked}\n"), [])
+
+    def test_a_dict_of_the_top_that_is_only_read_is_let_pass(self):
+        text = "def f(x):\n    return x\nKEPT = {1: (2, f)}\ndef g(x):\n    return KEPT[x][1](x) if x in KEPT else 0\n"
+        self.assertEqual(language.faults_of_file("knotless", text), [])
 
     def test_drawing_in_a_ring_is_found(self):
         ring = {
